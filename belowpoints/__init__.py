@@ -1,0 +1,1 @@
+"""Belowpoints: who lies below whom among points."""

@@ -1,0 +1,1 @@
+"""Counts of what lies below and above."""
