@@ -38,6 +38,13 @@ NO_NAMES = set(
     "builtins compile copyright credits delattr dir eval exec exit gc getattr globals hasattr help id importlib "
     "license locals methodcaller os quit setattr super vars sys chr print".split()
 )
+KEYWORDS = {
+    "sorted": {"key", "reverse"}, "min": {"key", "default"}, "max": {"key", "default"}, "sum": {"start"},
+    "enumerate": {"start"}, "zip": {"strict"},
+}
+WALKED = {"zip", "enumerate", "reversed", "range", "items", "keys", "values"}
+WALKERS = set("list tuple dict sorted sum any all enumerate zip min max".split())
+NAMES_OF_VALUES = set().union(*(dir(kind) for kind in (str, int, list, dict, set, bytes)))
 NO_FILES = set("test tests testing site conftest sitecustomize usercustomize".split()) | set(dir(builtins))
 
 
@@ -136,7 +143,7 @@ def nodes(*kinds):
     for path, tree in trees().values():
         for node in ast.walk(tree):
             if isinstance(node, kinds):
-                yield f"{path.relative_to(ROOT)}:{node.lineno}", node
+                yield f"{path.relative_to(ROOT)}:{getattr(node, 'lineno', '')}", node
 
 
 class Forms(unittest.TestCase):
@@ -221,6 +228,64 @@ class Forms(unittest.TestCase):
         for where, node in nodes(ast.Call):
             if isinstance(node.func, ast.Attribute):
                 self.assertIn(node.func.attr, METHODS | own | TWO_UNDERSCORES, where)
+
+    def test_methods_and_values_of_objects(self):
+        methods = {part.name for where, node in nodes(ast.ClassDef) for part in node.body if not is_pass(part)}
+        stored = set()
+        for where, node in nodes(ast.Attribute):
+            if isinstance(node.ctx, ast.Store):
+                stored.add(node.attr)
+                self.assertNotIn(node.attr, NAMES_OF_VALUES, where)
+        self.assertEqual(methods & stored, set())
+        self.assertEqual((methods - TWO_UNDERSCORES) & (NAMES_OF_VALUES - METHODS), set())
+
+    def test_keywords(self):
+        for where, node in nodes(ast.Call):
+            if name_called(node) in OWN_OF_PYTHON | METHODS:
+                used = {keyword.arg for keyword in node.keywords}
+                self.assertEqual(used - KEYWORDS.get(name_called(node), set()), set(), where)
+
+    def test_sets_and_what_is_walked_at_once(self):
+        for where, node in nodes(ast.AST):
+            for child in ast.iter_child_nodes(node):
+                if not isinstance(child, ast.Call):
+                    continue
+                if name_called(child) in ("set", "frozenset"):
+                    self.assertTrue(isinstance(node, ast.Compare) or name_called(node) in ("sorted", "len"), where)
+                elif name_called(child) in WALKED:
+                    first = isinstance(node, ast.Call) and node.args[:1] == [child] and name_called(node) in WALKERS
+                    walk = isinstance(node, (ast.For, ast.comprehension)) and node.iter is child
+                    self.assertTrue(first or walk or name_called(node) == "join", where)
+
+    def test_locals_are_not_called_like_classes_or_imports(self):
+        for path, tree in trees().values():
+            taken = {node.name for node in tree.body if isinstance(node, ast.ClassDef)}
+            for node in tree.body:
+                if isinstance(node, ast.ImportFrom):
+                    taken.update(alias.name for alias in node.names)
+            for node in ast.walk(tree):
+                if isinstance(node, ast.arg):
+                    self.assertNotIn(node.arg, taken, path)
+                elif isinstance(node, ast.Name) and isinstance(node.ctx, ast.Store):
+                    self.assertNotIn(node.id, taken, path)
+
+    def test_imports_are_used(self):
+        for path, tree in trees().values():
+            used = {node.id for node in ast.walk(tree) if isinstance(node, ast.Name)}
+            for node in tree.body:
+                if isinstance(node, ast.ImportFrom):
+                    self.assertEqual({alias.name for alias in node.names} - used, set(), path)
+
+
+def is_pass(node):
+    return isinstance(node, ast.Pass)
+
+
+def name_called(node):
+    """The name or the method that is called, if the node is a call at all."""
+    if not isinstance(node, ast.Call):
+        return None
+    return node.func.id if isinstance(node.func, ast.Name) else getattr(node.func, "attr", None)
 
 
 if __name__ == "__main__":

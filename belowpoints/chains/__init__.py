@@ -1,0 +1,1 @@
+"""Stairs and chains of points."""
