@@ -67,3 +67,28 @@ def above_one_by_one(points):
 
 def pairs_one_by_one(points):
     return sum(1 for one in points for other in points if is_below(one, other))
+
+
+def comings_and_goings(points, turns, seed):
+    """Changes by a fixed rule among these points: what is done, to which point, and the points held behind it."""
+    held = {}
+    state = seed
+    for turn in range(turns):
+        state = (state * 1103515245 + 12345) % 2**31
+        name, x, y = points[state // 65536 % len(points)]
+        point = (name, x + state // 1024 % 3, y)
+        word = "put" if name not in held else "take" if turn % 3 == 0 else "move"
+        if word == "take":
+            held.pop(name)
+        else:
+            held[name] = point
+        yield word, point, tuple(held.values())
+
+
+def change_kept(kept, word, point):
+    if word == "take":
+        kept.take_point(point[0])
+    elif word == "put":
+        kept.put_point(*point)
+    else:
+        kept.move_point(*point)

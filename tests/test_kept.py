@@ -7,7 +7,7 @@ from belowpoints.errors import BelowError, NoName
 from belowpoints.heaps.boxes import in_boxes
 from belowpoints.heaps.texts import lies_below
 from belowpoints.kept import KeptPoints
-from examples import HEAPS, MIXED, SIXTY_NARROW, SIXTY_WIDE, pairs_one_by_one
+from examples import HEAPS, MIXED, SIXTY_NARROW, SIXTY_WIDE, change_kept, comings_and_goings, pairs_one_by_one
 
 FAR = 9999999999999
 ALL = (-FAR, -FAR, FAR, FAR)
@@ -115,25 +115,11 @@ class Keeping(unittest.TestCase):
 
     def test_comings_and_goings(self):
         kept = KeptPoints()
-        held = []
-        state = 5
-        for turn in range(300):
-            state = (state * 1103515245 + 12345) % 2**31
-            name, x, y = SIXTY_NARROW[state // 65536 % 12]
-            x = x + state // 1024 % 3
-            at = [point[0] for point in held].index(name) if name in [point[0] for point in held] else None
-            if at is None:
-                kept.put_point(name, x, y)
-                held.append((name, x, y))
-            elif turn % 3 == 0:
-                kept.take_point(name)
-                held.pop(at)
-            else:
-                kept.move_point(name, x, y)
-                held[at] = (name, x, y)
+        for turn, (word, point, held) in enumerate(comings_and_goings(SIXTY_NARROW[:12], 300, 5)):
+            change_kept(kept, word, point)
             if turn % 10 == 0:
                 self.assert_holds(kept, held)
-            self.assertEqual(kept.points_now(), tuple(held))
+            self.assertEqual(kept.points_now(), held)
             self.assertEqual(kept.pairs_now(), pairs_one_by_one(held))
             self.assertEqual(kept.points_now(), kept_of(held).points_now())
 

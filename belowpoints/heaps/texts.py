@@ -26,8 +26,9 @@ def points_shown(points):
     return "\n".join([f"{name} {x} {y}" for name, x, y in points])
 
 
+# Of places by two numbers or by three.
 def lies_below(one, other):
-    return one[0] <= other[0] and one[1] <= other[1] and one != other
+    return one != other and all([number <= above for number, above in zip(one, other)])
 
 
 def place_of(point):
